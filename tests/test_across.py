@@ -1,4 +1,8 @@
-"""Points [71] and [72]: names do not matter, and the sequence of the columns for "ascending" alone."""
+"""What holds for many calls.
+
+Points [71] and [72]: names do not matter, and the sequence of the columns for "ascending" alone. Points [2] and
+[3]: arguments stay as they are, a tuple may stand for a list, and what is returned can be changed freely.
+"""
 
 import unittest
 from random import Random
@@ -6,7 +10,9 @@ from random import Random
 from helpers import layouts_of, small_tables, subsets
 from unbrokenrows.derivations import derive, follow, needless_rows, thinned
 from unbrokenrows.errors import NoLayout
-from unbrokenrows.orders import extent, gap_rows, run_count
+from unbrokenrows.orders import broken, extent, gap_rows, is_layout, run_count
+from unbrokenrows.tables import Table
+from unbrokenrows.tabletexts import grid, table_text
 from unbrokenrows.trees import Tree
 
 NEW_NAMES = {"a": "loose", "b": "firm", "c": "a", "d": "zebra", "e": "row"}
@@ -83,6 +89,58 @@ class ReorderedTest(unittest.TestCase):
             self.assertEqual(extent(moved, order, number), extent(table, order, number))
         for names in subsets(table.columns):
             self.assertIs(other.is_sure(names), one.is_sure(names))
+
+
+class ArgumentTest(unittest.TestCase):
+    def setUp(self):
+        self.table = Table(["c", "a", "b", "d"], [["a", "b"], ["b", "c"], ["d"], [], ["a", "b", "c"]])
+        self.tree = Tree.of(self.table)
+        self.before = (self.table.columns, self.table.rows, self.tree.columns, self.tree.form)
+
+    def tearDown(self):
+        self.assertEqual((self.table.columns, self.table.rows, self.tree.columns, self.tree.form), self.before)
+
+    def calls(self):
+        """Calls that take one list, with such a list."""
+        order, names = ["d", "a", "b", "c"], ["b", "a", "b"]
+        tree, table = self.tree, self.table
+        return [
+            (lambda told: tree.rank(told), order), (lambda told: told in tree, order),
+            (lambda told: tree.lowest(told), names), (lambda told: tree.is_sure(told), names),
+            (lambda told: tree.only(told), names), (lambda told: Tree.holding(told, order), ["a", "b", "c", "d"]),
+            (lambda told: Tree.holding(order, told), order), (lambda told: Tree.made(told, tree.form), order),
+            (lambda told: derive(table, told), names), (lambda told: follow(table, told), [("row", 1), ("all",)]),
+            (lambda told: grid(table, told), order), (lambda told: gap_rows(table, told), order),
+            (lambda told: broken(table, told), ["a", "d", "b", "c"]), (lambda told: is_layout(table, told), order),
+            (lambda told: table.only(told), names), (lambda told: table.reordered(told), order),
+            (lambda told: table.plus(told, ["a"]), ["b", "d"]), (lambda told: Table(told, [["a"]]), order),
+            (lambda told: Table(order, told), [["a"], ("c", "b"), []]),
+        ]
+
+    def test_lists_stay_and_tuples_stand_for_them(self):
+        for call, told in self.calls():
+            passed = list(told)
+            found = call(passed)
+            self.assertEqual(passed, told)
+            self.assertEqual(call(tuple(told)), found)
+
+    def test_returned_lists_can_be_changed(self):
+        tree, table = self.tree, self.table
+        makers = [lambda call=call, told=told: call(told) for call, told in self.calls()]
+        makers += [tree.pieces, tree.sure_sets, tree.telling_rows, tree.first, lambda: needless_rows(table)]
+        for make in makers:
+            found = make()
+            if isinstance(found, list):
+                before = list(found)
+                found.clear()
+                self.assertEqual(make(), before)
+
+    def test_tables_and_trees_stay(self):
+        other = Tree.of(self.table.only(["a", "b", "c", "d"]).without(0))
+        found = [self.tree & other, self.tree | other, self.tree.within(other), thinned(self.table),
+                 needless_rows(self.table), table_text(self.table), self.tree.count(), list(self.tree.layouts())]
+        self.assertEqual(found[4], [2, 3, 4])
+        self.assertEqual(found[3].rows, (("a", "b"), ("c", "b")))
 
 
 if __name__ == "__main__":

@@ -34,9 +34,7 @@ class Counted:
 
     def heads(self, left):
         """The columns that can come next, each with its child, when these children are left."""
-        nexts = left
-        if self.word == "firm" and len(left) > 0:
-            nexts = _firm_nexts(left, len(self.children))
+        nexts = _firm_nexts(left, len(self.children)) if self.word == "firm" else left
         return sorted([(number, index) for index in nexts for number in self.children[index].starts])
 
     def behind(self, child, left, each):
