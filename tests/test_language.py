@@ -13,8 +13,9 @@ ROOT = os.path.dirname(os.path.dirname(os.path.abspath(__file__)))
 PACKAGE = "unbrokenrows"
 FOLDER = os.path.join(ROOT, PACKAGE)
 BUILTINS = set("""len range enumerate zip min max sum abs sorted reversed int str bool list tuple dict set isinstance
-    ord repr any all divmod ValueError TypeError KeyError super staticmethod classmethod property NotImplemented
-    iter map""".split())
+    ord repr any all divmod ValueError TypeError KeyError NotImplementedError super staticmethod classmethod property
+    NotImplemented iter map""".split())
+CALLABLE_ATTRIBUTES = {"question"}
 METHODS = set("""append clear copy count endswith extend find get index insert isalnum isalpha isdigit islower isspace
     isupper items join keys ljust lower lstrip partition pop remove replace reverse rfind rjust rpartition rsplit
     rstrip setdefault split splitlines startswith strip update upper values zfill bit_length __init__""".split())
@@ -184,7 +185,7 @@ class NameTest(unittest.TestCase):
                     self.assertIn(node.id, known, f"{name} {node.lineno}")
 
     def test_methods_that_are_called(self):
-        known = METHODS | methods_of_package()
+        known = METHODS | methods_of_package() | CALLABLE_ATTRIBUTES
         for name, node in nodes(ast.Call):
             if isinstance(node.func, ast.Attribute):
                 self.assertIn(node.func.attr, known, f"{name} {node.lineno}")

@@ -81,6 +81,11 @@ def names_in(mask, columns):
     return tuple([columns[number] for number in numbers_in(mask)])
 
 
+def named(numbers, columns):
+    """The list of the names of these columns."""
+    return [columns[number] for number in numbers]
+
+
 def mask_of(names, columns):
     """The set of the columns with these names. Other names, and names twice, do not matter."""
     return sum([1 << number for number, name in enumerate(columns) if name in names])

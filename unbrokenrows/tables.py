@@ -1,6 +1,6 @@
 """Tables: columns, and rows with a mark in some of them."""
 
-from unbrokenrows.errors import BadTable, UnknownColumn, UnknownRow
+from unbrokenrows.errors import BadTable, SameColumn, UnknownColumn, UnknownRow
 from unbrokenrows.names import first_bad_name, first_stray
 from unbrokenrows.orders import check_order
 
@@ -19,6 +19,14 @@ def check_known(columns, names):
     for name in names:
         if name not in columns:
             raise UnknownColumn(name)
+
+
+def two_columns(columns, a, b):
+    """The numbers of two columns. Raises UnknownColumn, then SameColumn."""
+    check_known(columns, [a, b])
+    if a == b:
+        raise SameColumn(a)
+    return columns.index(a), columns.index(b)
 
 
 def _check_rows(columns, rows):

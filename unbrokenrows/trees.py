@@ -1,12 +1,13 @@
 """Trees: all layouts of a table at once."""
 
-from unbrokenrows.counting import Counted, layout_number, nth_layout
+from unbrokenrows.counting import layout_number, nth_layout
 from unbrokenrows.errors import BadForm, BadNumber, BadOrder, NoCommon, NoLayout, NotLayout, OtherColumns
 from unbrokenrows.forms import form_text, is_form
+from unbrokenrows.leads import leads_of
 from unbrokenrows.narrowing import all_narrowed, first_too_many
 from unbrokenrows.orders import check_order, order_fault, runs_of
-from unbrokenrows.parts import all_loose, form_of, is_sure_mask, mask_of, names_in, numbers_in, part_of
-from unbrokenrows.parts import at_most_one, pieces_of, sure_masks, telling_masks, trimmed
+from unbrokenrows.parts import all_loose, form_of, is_sure_mask, mask_of, named, names_in, numbers_in
+from unbrokenrows.parts import at_most_one, part_of, pieces_of, sure_masks, telling_masks, trimmed
 from unbrokenrows.tables import check_columns, check_known
 
 
@@ -53,32 +54,32 @@ class Tree:
 
     def count(self):
         """The number of layouts."""
-        return Counted(self._part).ways
+        return self._counted().ways
 
     def first(self):
         """The least layout."""
-        return self.kth(0)
+        return named(leads_of(self._part, []).first(), self.columns)
 
     def kth(self, number):
         """The layout with this number."""
-        counted = Counted(self._part)
+        counted = self._counted()
         if not 0 <= number < counted.ways:
             raise BadNumber(number)
-        return self._order(nth_layout(counted, number))
+        return named(nth_layout(counted, number), self.columns)
 
     def rank(self, order):
         """The number of a layout."""
         check_order(self, order)
         if order not in self:
             raise NotLayout("the order is not a layout of the tree")
-        return layout_number(Counted(self._part), [self.columns.index(name) for name in order])
+        return layout_number(self._counted(), [self.columns.index(name) for name in order])
 
     def layouts(self):
         """All layouts in ascending order, one by one."""
-        counted = Counted(self._part)
+        counted = self._counted()
         number = 0
         while number < counted.ways:
-            yield self._order(nth_layout(counted, number))
+            yield named(nth_layout(counted, number), self.columns)
             number += 1
 
     def pieces(self):
@@ -101,7 +102,7 @@ class Tree:
         """All sure sets with at least two columns, small ones first."""
         found = [numbers_in(mask) for mask in sure_masks(self._part)]
         ordered = sorted([(len(numbers), numbers) for numbers in found])
-        return [tuple(self._order(numbers)) for _, numbers in ordered]
+        return [tuple(named(numbers, self.columns)) for _, numbers in ordered]
 
     def telling_rows(self):
         """Sets of columns that have, as rows of a table, this tree."""
@@ -118,8 +119,8 @@ class Tree:
         self._check_same(other)
         return all([self.is_sure(names) for names in other.telling_rows()])
 
-    def _order(self, numbers):
-        return [self.columns[number] for number in numbers]
+    def _counted(self):
+        return leads_of(self._part, []).counted()
 
     def _row(self, names):
         check_known(self.columns, names)
@@ -132,21 +133,17 @@ class Tree:
         if self.columns != other.columns:
             raise OtherColumns("the trees have other columns")
 
-    def _narrowed(self, part, sets):
-        rows = [mask_of(names, self.columns) for names in sets]
-        return all_narrowed(part, rows)
-
     def __and__(self, other):
         self._check_same(other)
-        part = self._narrowed(self._part, other.telling_rows())
+        part = all_narrowed(self._part, telling_masks(other._part))
         if part is None:
             raise NoCommon("the trees have no layout in common")
         return Tree(self.columns, part)
 
     def __or__(self, other):
         self._check_same(other)
-        common = [names for names in self.sure_sets() if other.is_sure(names)]
-        return Tree(self.columns, self._narrowed(all_loose(len(self.columns)), common))
+        common = [mask for mask in sure_masks(self._part) if is_sure_mask(other._part, mask)]
+        return Tree(self.columns, all_narrowed(all_loose(len(self.columns)), common))
 
     def __contains__(self, order):
         if order_fault(self.columns, order) is not None:
