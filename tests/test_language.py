@@ -349,6 +349,16 @@ class OperatorTest(unittest.TestCase):
             for call in [one for one in ast.walk(node) if isinstance(one, ast.Call)]:
                 self.assertNotIn(getattr(call.func, "id", ""), parameters(node), f"{name} {node.name}")
 
+    def test_no_call_has_the_name_of_an_attribute(self):
+        """A method that is called counts as what an attribute holds if some class has an attribute of its name."""
+        stored = {node.attr for _, node in nodes(ast.Attribute) if isinstance(node.ctx, ast.Store)}
+        self.assertTrue({"index", "name", "rows"} <= stored)
+        for name, node in self.reached():
+            for call in [one for one in ast.walk(node) if isinstance(one, ast.Call)]:
+                if isinstance(call.func, ast.Attribute):
+                    self.assertNotIn(call.func.attr, stored, f"{name} {call.lineno}")
+                self.assertIsInstance(call.func, (ast.Attribute, ast.Name), f"{name} {call.lineno}")
+
 
 if __name__ == "__main__":
     unittest.main()

@@ -154,7 +154,12 @@ class Kept:
         return self._numbering
 
     def __contains__(self, order):
-        return order in self.tree and all([order.index(one) < order.index(other) for one, other in self.pairs])
+        return order in self.tree and all([_stand_so(order, one, other) for one, other in self.pairs])
+
+
+# Without `index` of the list: an operator calls nothing that it is passed, and errors have an `index` too.
+def _stand_so(order, one, other):
+    return [name for name in order if name in (one, other)] == [one, other]
 
 
 def fewest_out(table, pairs):
