@@ -25,7 +25,7 @@ def find_reason(part, pairs, one, other):
     if piece.word == "firm":
         blocks = _masks(piece.children if here < there else piece.children[::-1])
         return "turn", blocks, list(steps.values())[:1]
-    path = _shortest_path(steps, here, there)
+    path = shortest_path(steps, here, there)
     return "chain", _masks([piece.children[child] for child in path]), _pairs_on(steps, path)
 
 
@@ -42,7 +42,7 @@ def _clash_of(piece, steps):
     if piece.word == "firm":
         return _turn_of(piece, steps)
     for here, there in steps:
-        path = _shortest_path(steps, there, here)
+        path = shortest_path(steps, there, here)
         if path is not None:
             return "ring", _masks([piece.children[child] for child in path]), _pairs_on(steps, [*path, there])
     return None
@@ -56,8 +56,8 @@ def _turn_of(piece, steps):
     return "turn", _masks(piece.children), [forward[0], backward[0]]
 
 
-def _shortest_path(steps, here, there):
-    """The children on a shortest way by told pairs, None if there is none."""
+def shortest_path(steps, here, there):
+    """What stands on a shortest way by these steps from one end to the other, None if there is no way."""
     paths = {here: [here]}
     reached = [here]
     while reached:

@@ -21,11 +21,17 @@ def check_known(columns, names):
             raise UnknownColumn(name)
 
 
+def check_different(columns, names):
+    """Raise UnknownColumn for a name that is not a column, then SameColumn for one that stands twice."""
+    check_known(columns, names)
+    index = first_stray(columns, names)
+    if index is not None:
+        raise SameColumn(names[index])
+
+
 def two_columns(columns, a, b):
     """The numbers of two columns. Raises UnknownColumn, then SameColumn."""
-    check_known(columns, [a, b])
-    if a == b:
-        raise SameColumn(a)
+    check_different(columns, [a, b])
     return columns.index(a), columns.index(b)
 
 
