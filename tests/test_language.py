@@ -304,6 +304,7 @@ class OperatorTest(unittest.TestCase):
         makers = {one.name: (name, node) for name, one in nodes(ast.ClassDef) for node in one.body
                   if isinstance(node, ast.FunctionDef) and node.name == "__init__"}
         waiting = [pair for word in PURE for pair in by_name.get(word, [])]
+        waiting += [pair for pair in functions() if self.is_property(pair[1])]
         found = []
         while waiting:
             pair = waiting.pop()
@@ -316,9 +317,13 @@ class OperatorTest(unittest.TestCase):
                 waiting.extend([makers[told]] if told in makers else [])
         return found
 
+    def is_property(self, function):
+        return [getattr(one, "id", "") for one in function.decorator_list] == ["property"]
+
     def test_something_is_reached(self):
         names = {node.name for _, node in self.reached()}
-        self.assertTrue({"narrowed", "first_stray", "form_text", "order_fault", "_lined_firm"} <= names)
+        self.assertTrue({"narrowed", "first_stray", "form_text", "order_fault", "_lined_firm", "is_ring_layout",
+                         "strict"} <= names)
 
     def test_changes(self):
         for name, node in self.reached():

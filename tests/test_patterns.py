@@ -1,7 +1,7 @@
 import unittest
 from random import Random
 
-from helpers import TWELVE, check_raises, layouts_of, random_table, small_tables, table_with_layout
+from helpers import TWELVE, check_raises, layouts_of, small_tables, table_with_layout
 from unbrokenrows.errors import BadKind, NoLayout
 from unbrokenrows.patterns import Pattern, find_pattern, lies_in, recognized, standard_rows, standard_width
 from unbrokenrows.tables import Table

@@ -205,6 +205,8 @@ class RingTest(unittest.TestCase):
             for other in found:
                 same = ring_layouts_of(one) == ring_layouts_of(other)
                 self.assertIs(Ring.of(one) == Ring.of(other), same)
+        table = Table(TWELVE[:4], [["b", "c"], ["c", "d"]])
+        self.assertFalse(Ring.of(table) == Ring.of(table.reordered(["a", "b", "d", "c"])))
         self.assertFalse(Ring.of(Table.empty("a", "b")) == Ring.of(Table.empty("b", "a")))
         self.assertFalse(Ring.of(Table.empty("a", "b")) == Ring.of(Table.empty("a")))
 

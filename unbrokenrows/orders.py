@@ -1,6 +1,6 @@
 """Orders of the columns of a table, and how its rows lie in them."""
 
-from unbrokenrows.errors import BadOrder, UnknownRow
+from unbrokenrows.errors import BadOrder
 from unbrokenrows.names import first_stray
 
 

@@ -65,4 +65,4 @@ def _moved(names, steps):
 
 
 def _all_moved(names):
-    return [names, *[_moved(names, steps) for steps in range(1, len(names))]]
+    return [_moved(names, steps) for steps in range(len(names) + 1)]

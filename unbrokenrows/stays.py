@@ -60,7 +60,7 @@ def _strange_pairs(meetings, guests):
 
 
 def _way(meetings, start, end, barred):
-    """A shortest way from guest to guest who have met, without those who are barred, or None."""
+    """A shortest way from guest to guest who have met, with nobody on it who is barred, None if there is none."""
     pairs = [pair for pair in meetings.pairs if pair[0] not in barred and pair[1] not in barred]
     return shortest_path([*pairs, *[(other, one) for one, other in pairs]], start, end)
 
@@ -78,8 +78,8 @@ def _three_guests(meetings):
 
 def _way_away(meetings, start, end, third):
     """A way on which nobody is a third guest or has met them, None if there is none."""
-    barred = [guest for guest in meetings.guests if guest == third or meetings.met(guest, third)]
-    return None if start in barred or end in barred else _way(meetings, start, end, barred)
+    friends = [guest for guest in meetings.guests if meetings.met(guest, third)]
+    return _way(meetings, start, end, [third, *friends])
 
 
 def rooms(meetings):
